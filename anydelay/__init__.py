@@ -1,0 +1,1 @@
+"""Anydelay: nets of gates without a beat."""
