@@ -24,6 +24,7 @@ class ErrorClasses(unittest.TestCase):
     def test_the_words_are_kept(self):
         for refusal in [NetError] + REFUSALS:
             self.assertEqual(str(refusal("some words")), "some words")
+        self.assertEqual(str(NoStep("some words", 3)), "some words")
 
     def test_no_step_has_the_field_at(self):
         self.assertIsNone(NoStep("words").at)

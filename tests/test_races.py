@@ -1,10 +1,11 @@
 import copy
 import itertools
 import unittest
+from unittest import mock
 
 from anydelay.errors import NoStanding
-from anydelay.nets import asked_gates, switch_gate
-from anydelay.orders import all_standings, order_end
+from anydelay.nets import asked_gates, steps_from, switch_gate
+from anydelay.orders import all_rests, all_standings, order_end, shortest_order
 from anydelay.races import calm_paper, calm_shows, first_race
 from support import (CLOCK, FORK, HAZARD, LATCH, NETS, RING, both, either, inv, plain_calmed, plain_orders, plain_steps,
                      some_nets, standings, things, wire)
@@ -185,6 +186,13 @@ class CalmShows(unittest.TestCase):
                 for standing in rows:
                     self.assertIs(calm_shows(net, standing, paper), plain_shows(net, standing, paper))
 
+    def test_what_is_no_list_of_texts(self):
+        for thing in things():
+            self.no(FORK, "1000", thing)
+            self.no(FORK, "1000", [thing])
+            self.no(FORK, "1000", self.PAPER + [thing])
+        self.no(FORK, "1000", tuple(self.PAPER))
+
     def test_long_papers(self):
         net = (["x"], [(name, inv(wire(name))) for name in "gfedcba"])
         rows = standings(net)
@@ -237,6 +245,27 @@ class SameRest(unittest.TestCase):
 
     def test_with_a_race_there_may_be_two(self):
         self.assertEqual({rest for rest, _ in self.ends(LATCH, "00")}, {"01", "10"})
+
+
+class OnceAlone(unittest.TestCase):
+
+    def test_what_was_come_to_once_is_not_gone_on_from_again(self):
+        gone = []
+
+        def counted(net, standing):
+            gone.append(standing)
+            return steps_from(net, standing)
+
+        calls = [all_standings, all_rests, first_race, calm_paper,
+                 lambda net, here: shortest_order(net, here, "0" * len(here)),
+                 lambda net, here: calm_shows(net, here, standings(net)),
+                 lambda net, here: order_end(net, here, ["t"] * 9 if net == CLOCK else [])]
+        with mock.patch("anydelay.orders.steps_from", counted), mock.patch("anydelay.races.steps_from", counted):
+            for call, net in itertools.product(calls, NETS + some_nets(26, 10, ["x"], ["c", "a", "b"])):
+                for standing in standings(net):
+                    gone.clear()
+                    call(net, standing)
+                    self.assertEqual(len(gone), len(set(gone)))
 
 
 class NothingChanged(unittest.TestCase):
