@@ -34,6 +34,25 @@ def is_pair(thing):
     return isinstance(thing, tuple) and len(thing) == 2
 
 
+def is_whole(thing):
+    return isinstance(thing, int) and not isinstance(thing, bool)
+
+
+def is_number_below(thing, bound):
+    return is_whole(thing) and 0 <= thing < bound
+
+
+def is_row(thing, many):
+    if not isinstance(thing, str) or len(thing) != many:
+        return False
+    return all([sign in TURNED for sign in thing])
+
+
+def are_unlike_names(things):
+    # All are known to be names, and so texts, before they are counted.
+    return all([is_name(thing) for thing in things]) and len(set(things)) == len(things)
+
+
 def is_net(thing):
     if not is_pair(thing) or not isinstance(thing[0], list) or not isinstance(thing[1], list):
         return False
@@ -44,19 +63,21 @@ def is_net(thing):
     if not all([is_pair(gate) for gate in gates]):
         return False
     wires = wires_of(thing)
-    if not all([is_name(wire) for wire in wires]) or len(set(wires)) != len(wires):
+    if not are_unlike_names(wires):
         return False
     return all([is_rule(gate[1], wires, MOST_RULES_WITHIN) for gate in gates])
 
 
+def gates_of(net):
+    return [gate[0] for gate in net[1]]
+
+
 def wires_of(net):
-    return list(net[0]) + [gate[0] for gate in net[1]]
+    return list(net[0]) + gates_of(net)
 
 
 def is_standing(net, thing):
-    if not isinstance(thing, str) or len(thing) != len(net[0]) + len(net[1]):
-        return False
-    return all([sign in TURNED for sign in thing])
+    return is_row(thing, len(net[0]) + len(net[1]))
 
 
 def check_standing(net, thing):
@@ -81,6 +102,10 @@ def rule_worth(rule, signs):
 
 def signs_in(net, standing):
     return dict(zip(wires_of(net), standing))
+
+
+def row_of(signs, wires):
+    return "".join([signs[wire] for wire in wires])
 
 
 def worth_of(net, rule, standing):

@@ -20,16 +20,16 @@ def order_end(net, standing, order):
     return here
 
 
-def steps_found(net, standing):
-    # A dict from each standing that can be come to, to its steps. Its keys are in the order of their
-    # first shortest orders, since each standing's steps are gone along in the gates' order.
+def found_from(start, steps_of):
+    # A dict from each thing that can be come to, to its steps, tuples (name, thing behind). Its keys are in the
+    # order of their first shortest orders, if steps_of tells a thing's steps in the order in which names go.
     found = {}
-    waiting = [standing]
-    known = {standing: True}
+    waiting = [start]
+    known = {start: True}
     at = 0
     while at < len(waiting):
         here = waiting[at]
-        steps = steps_from(net, here)
+        steps = steps_of(here)
         found[here] = steps
         for step in steps:
             if step[1] not in known:
@@ -39,16 +39,20 @@ def steps_found(net, standing):
     return found
 
 
-def order_to(found, standing, other):
-    # found is as steps_found tells it from standing, and other is one of its keys.
+def steps_found(net, standing):
+    return found_from(standing, lambda here: steps_from(net, here))
+
+
+def order_to(found, start, other):
+    # found is as found_from tells it from start, and other is one of its keys.
     came = {}
     for here in found:
         for name, behind in found[here]:
-            # The first step to a standing is the last one of its first shortest order.
+            # The first step to a thing is the last one of its first shortest order.
             came.setdefault(behind, (name, here))
     names = []
     here = other
-    while here != standing:
+    while here != start:
         names.append(came[here][0])
         here = came[here][1]
     return list(reversed(names))
@@ -59,10 +63,13 @@ def all_standings(net, standing):
     return sorted(steps_found(net, standing))
 
 
+def rests_in(steps):
+    return [here for here in sorted(steps) if len(steps[here]) == 0]
+
+
 def all_rests(net, standing):
     check_standing(net, standing)
-    found = steps_found(net, standing)
-    return [here for here in sorted(found) if len(found[here]) == 0]
+    return rests_in(steps_found(net, standing))
 
 
 def shortest_order(net, standing, other):

@@ -40,6 +40,14 @@ FORK = (["x"], [("p", wire("x")), ("b", wire("x")), ("e", both(wire("p"), wire("
 CLOCK = ([], [("t", inv(wire("t")))])
 NETS = [HAZARD, LATCH, RING, FORK, CLOCK]
 
+# The input r and the output a turn by turns.
+HANDSHAKE = (["r"], ["a"], "00", [[("r", 1)], [("a", 2)], [("r", 3)], [("a", 0)]])
+FOLLOW = (["r"], [("a", wire("r"))])
+# The output c turns behind both inputs, x and y, which turn in any order.
+MEETING = (["x", "y"], ["c"], "000", [[("x", 1), ("y", 2)], [("y", 3)], [("x", 3)], [("c", 4)],
+                                      [("x", 5), ("y", 6)], [("y", 7)], [("x", 7)], [("c", 0)]])
+MEET = (["x", "y"], [("c", either(both(wire("x"), wire("y")), both(wire("c"), either(wire("x"), wire("y")))))])
+
 
 class Shy:
     """A thing that refuses to be compared, measured, looked up or taken for a truth."""
@@ -86,6 +94,14 @@ class Numbers:
         return choices[self.below(len(choices))]
 
 
+def noting(gone, tell):
+    """tell itself, but each time it notes in gone the last thing that it is asked of."""
+    def noted(*asked):
+        gone.append(asked[-1])
+        return tell(*asked)
+    return noted
+
+
 def some_rule(numbers, wires, depth):
     kind = numbers.one_of(["wire", "not", "and", "or"]) if depth > 1 else "wire"
     if kind == "wire":
@@ -102,6 +118,41 @@ def some_net(numbers, inputs, names):
 def some_nets(seed, many, inputs, names):
     numbers = Numbers(seed)
     return [some_net(numbers, inputs, names) for _ in range(many)]
+
+
+def turned_row(row, place):
+    return row[:place] + "10"[int(row[place])] + row[place + 1:]
+
+
+def some_sheet(numbers, inputs, outputs, many):
+    """A sheet of nodes with some rows of signs, and some of the turns that their signs let."""
+    wires = inputs + outputs
+    rows = ["".join(numbers.one_of("01") for _ in wires) for _ in range(many)]
+    nodes = []
+    for row in rows:
+        turns = []
+        for place, name in enumerate(wires):
+            goals = [node for node, other in enumerate(rows) if other == turned_row(row, place)]
+            if goals and numbers.below(4):
+                turns.insert(numbers.below(2), (name, numbers.one_of(goals)))
+        nodes.append(turns)
+    return (list(inputs), list(outputs), rows[0], nodes)
+
+
+def sheet_of_net(numbers, net, standing):
+    """A sheet that lets all that the net does, all of its gates being outputs, and some turns of its inputs."""
+    names = [*net[0], *(name for name, _ in net[1])]
+    rows = [standing]
+    nodes = []
+    for row in rows:
+        turns = []
+        behind = [(name, turned_row(row, place)) for place, name in enumerate(net[0]) if numbers.below(3)]
+        for name, other in behind + list(plain_steps(net, row).items()):
+            if other not in rows:
+                rows.append(other)
+            turns.insert(numbers.below(2), (name, rows.index(other)))
+        nodes.append(turns)
+    return (list(net[0]), names[len(net[0]):], standing, nodes)
 
 
 def standings(net):

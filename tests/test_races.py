@@ -7,8 +7,8 @@ from anydelay.errors import NoStanding
 from anydelay.nets import asked_gates, steps_from, switch_gate
 from anydelay.orders import all_rests, all_standings, order_end, shortest_order
 from anydelay.races import calm_paper, calm_shows, first_race
-from support import (CLOCK, FORK, HAZARD, LATCH, NETS, RING, both, either, inv, plain_calmed, plain_orders, plain_steps,
-                     some_nets, standings, things, wire)
+from support import (CLOCK, FORK, HAZARD, LATCH, NETS, RING, both, either, inv, noting, plain_calmed, plain_orders,
+                     plain_steps, some_nets, standings, things, wire)
 
 # Longer than any shortest order of three gates can be.
 LONGEST = 8
@@ -251,16 +251,12 @@ class OnceAlone(unittest.TestCase):
 
     def test_what_was_come_to_once_is_not_gone_on_from_again(self):
         gone = []
-
-        def counted(net, standing):
-            gone.append(standing)
-            return steps_from(net, standing)
-
+        noted = noting(gone, steps_from)
         calls = [all_standings, all_rests, first_race, calm_paper,
                  lambda net, here: shortest_order(net, here, "0" * len(here)),
                  lambda net, here: calm_shows(net, here, standings(net)),
                  lambda net, here: order_end(net, here, ["t"] * 9 if net == CLOCK else [])]
-        with mock.patch("anydelay.orders.steps_from", counted), mock.patch("anydelay.races.steps_from", counted):
+        with mock.patch("anydelay.orders.steps_from", noted), mock.patch("anydelay.races.steps_from", noted):
             for call, net in itertools.product(calls, NETS + some_nets(26, 10, ["x"], ["c", "a", "b"])):
                 for standing in standings(net):
                     gone.clear()
