@@ -18,16 +18,20 @@ def is_node(thing, wires, many):
     return len(set([turn[0] for turn in thing])) == len(thing)
 
 
-def has_sheet_form(thing):
+def has_wires(thing):
+    # What sheets of both kinds begin with: inputs, one output at least, and first signs; and that a list is last.
     if not isinstance(thing, tuple) or len(thing) != 4:
         return False
     if not all([isinstance(thing[place], list) for place in (0, 1, 3)]):
         return False
-    if len(thing[0]) > MOST_INPUTS or not 1 <= len(thing[1]) <= MOST_GATES:
+    wires = thing[0] + thing[1]
+    return len(thing[1]) >= 1 and are_unlike_names(wires) and is_row(thing[2], len(wires))
+
+
+def has_sheet_form(thing):
+    if not has_wires(thing) or len(thing[0]) > MOST_INPUTS or len(thing[1]) > MOST_GATES:
         return False
     wires = thing[0] + thing[1]
-    if not are_unlike_names(wires) or not is_row(thing[2], len(wires)):
-        return False
     many = len(thing[3])
     return 1 <= many <= MOST_NODES and all([is_node(part, wires, many) for part in thing[3]])
 

@@ -139,6 +139,25 @@ def some_sheet(numbers, inputs, outputs, many):
     return (list(inputs), list(outputs), rows[0], nodes)
 
 
+def plain_rows(sheet):
+    """All pairs (node, row of signs) that come."""
+    wires = [*sheet[0], *sheet[1]]
+    pairs = {(0, sheet[2])}
+    while True:
+        more = {(to, turned_row(row, wires.index(name))) for node, row in pairs for name, to in sheet[3][node]}
+        if more <= pairs:
+            return pairs
+        pairs |= more
+
+
+def plain_clashes(sheet):
+    """As clash_pairs tells it."""
+    rows = dict(plain_rows(sheet))
+    outputs = {node: {name for name, _ in sheet[3][node]} & set(sheet[1]) for node in rows}
+    return [(one, other) for one, other in itertools.combinations(sorted(rows), 2)
+            if rows[one] == rows[other] and outputs[one] ^ outputs[other]]
+
+
 def sheet_of_net(numbers, net, standing):
     """A sheet that lets all that the net does, all of its gates being outputs, and some turns of its inputs."""
     names = [*net[0], *(name for name, _ in net[1])]
@@ -192,3 +211,137 @@ def plain_orders(net, standing, longest):
     for _ in range(longest + 1):
         yield from row
         row = [(order + [name], behind) for order, here in row for name, behind in plain_steps(net, here).items()]
+
+
+def turn_of(text):
+    return (text[:-1], text[-1])
+
+
+def arcs_of(text):
+    """A sorted list of arcs from a text as "r+>a+ a->r+*", a * for the mark 1."""
+    arcs = []
+    for part in text.split():
+        one, other = part.rstrip("*").split(">")
+        arcs.append((turn_of(one), turn_of(other), part.count("*")))
+    return sorted(arcs)
+
+
+def ring_of(inputs, outputs, first, arcs):
+    """A ring sheet from texts, names parted by blanks."""
+    return (inputs.split(), outputs.split(), first, arcs_of(arcs))
+
+
+def circle(inputs, outputs, order):
+    """A ring sheet whose turns come one behind the other, round and round, in the order of a text."""
+    turns = order.split()
+    arcs = " ".join(f"{turns[k]}>{turns[k + 1]}" for k in range(len(turns) - 1))
+    wires = inputs.split() + outputs.split()
+    first = "".join("0" if turns.index(name + "+") < turns.index(name + "-") else "1" for name in wires)
+    return ring_of(inputs, outputs, first, f"{arcs} {turns[-1]}>{turns[0]}*")
+
+
+# The ring sheet of HANDSHAKE, and that of MEETING.
+SHAKE = circle("r", "a", "r+ a+ r- a-")
+MEETS = ring_of("x y", "c", "000", "x+>c+ y+>c+ c+>x- c+>y- x->c- y->c- c->x+* c->y+*")
+# The sign of a is the same whether b has come or not.
+TWICE = circle("r", "a b", "r+ a+ a- b+ r- b-")
+
+
+def all_turns(ring):
+    return sorted((name, way) for name in ring[0] + ring[1] for way in "+-")
+
+
+def some_ring(numbers, inputs, outputs, more, wild):
+    """A ring sheet: in some order of all turns each pair that is drawn waits for one another, and goes by turns.
+
+    The two turns of each wire are such a pair. One of so many arcs, told by wild, is left out or has another mark.
+    """
+    wires = inputs + outputs
+    left = [(name, way) for name in wires for way in "+-"]
+    order = []
+    while left:
+        order.append(left.pop(numbers.below(len(left))))
+    pairs = [((name, "+"), (name, "-")) for name in wires]
+    pairs += [(numbers.one_of(order), numbers.one_of(order)) for _ in range(more)]
+    arcs = {}
+    for one, other in pairs:
+        if one != other:
+            ahead = order.index(one) < order.index(other)
+            arcs[one, other], arcs[other, one] = (0, 1) if ahead else (1, 0)
+    for turns in list(arcs):
+        waiting = [pair for pair in arcs if pair[1] == turns[1]]
+        if numbers.below(wild) == 0 and len(waiting) > 1:
+            del arcs[turns]
+        elif numbers.below(wild) == 0:
+            arcs[turns] = 1 - arcs[turns]
+    first = "".join("0" if order.index((name, "+")) < order.index((name, "-")) else "1" for name in wires)
+    return (list(inputs), list(outputs), first, sorted((one, other, mark) for (one, other), mark in arcs.items()))
+
+
+def some_rings(seed, many, wild):
+    """Ring sheets of two to five wires."""
+    numbers = Numbers(seed)
+    for _ in range(many):
+        names = list("dbeca")[:2 + numbers.below(4)]
+        inputs = numbers.below(len(names))
+        yield some_ring(numbers, names[:inputs], names[inputs:], numbers.below(8), wild)
+
+
+def plain_place(ring, turns):
+    """The marks and the signs behind a list of turns, counted out from its beginning."""
+    marks = tuple(mark + turns.count(one) - turns.count(other) for one, other, mark in ring[3])
+    names = [name for name, _ in turns]
+    signs = "".join(str((int(sign) + names.count(name)) % 2) for name, sign in zip(ring[0] + ring[1], ring[2]))
+    return marks, signs
+
+
+def plain_may_come(ring, turns):
+    """The turns that may come behind a list of turns, in order."""
+    marks = plain_place(ring, turns)[0]
+    held = {other for (_, other, _), mark in zip(ring[3], marks) if mark == 0}
+    return [turn for turn in all_turns(ring) if turn not in held]
+
+
+def plain_unfolded(ring, most=40):
+    """As unfolded tells it, each node kept as a list of turns that leads to it."""
+    lists, places, nodes = [[]], [plain_place(ring, [])], []
+    for turns in lists:
+        node = []
+        for turn in plain_may_come(ring, turns):
+            behind = turns + [turn]
+            sign = dict(zip(ring[0] + ring[1], plain_place(ring, turns)[1]))[turn[0]]
+            place = plain_place(ring, behind)
+            if (sign, turn[1]) not in [("0", "+"), ("1", "-")]:
+                return ("odd", behind, "signs")
+            if max(place[0]) > 1:
+                return ("odd", behind, "twice")
+            if place not in places:
+                if len(places) == most:
+                    return ("many",)
+                places.append(place)
+                lists.append(behind)
+            node.append((turn[0], places.index(place)))
+        nodes.append(node)
+    return ("sheet", (ring[0], ring[1], ring[2], nodes))
+
+
+def plain_holds(product, row):
+    return all(one in ("-", other) for one, other in zip(product, row))
+
+
+def plain_fewest(wishes):
+    """The fewest products, and the fewest signs that so many have, found by growing rows that are held."""
+    ones = sorted(row for row in wishes if wishes[row] == "1")
+    zeros = [row for row in wishes if wishes[row] == "0"]
+    prices = {}
+    for product in itertools.product("01-", repeat=len(next(iter(wishes)))):
+        if not any(plain_holds(product, row) for row in zeros):
+            held = sum(2 ** place for place, row in enumerate(ones) if plain_holds(product, row))
+            prices[held] = min(prices.get(held, 9), len(product) - product.count("-"))
+    best = {0: (0, 0)}
+    for held in range(2 ** len(ones)):
+        if held in best:
+            many, signs = best[held]
+            for more, price in prices.items():
+                best[held | more] = min(best.get(held | more, (99, 99)), (many + 1, signs + price))
+    return best[2 ** len(ones) - 1]

@@ -3,7 +3,7 @@ import itertools
 import unittest
 
 from anydelay.sheets import is_sheet, signs_of
-from support import HANDSHAKE, MEETING, Numbers, Shy, Yes, some_sheet, things, turned_row
+from support import HANDSHAKE, MEETING, Numbers, Shy, Yes, plain_rows, some_sheet, things
 
 SHEETS = [HANDSHAKE, MEETING]
 
@@ -11,17 +11,6 @@ SHEETS = [HANDSHAKE, MEETING]
 def with_nodes(nodes):
     """A thing with the input x, the outputs a and b, and these nodes."""
     return (["x"], ["a", "b"], "000", nodes)
-
-
-def plain_rows(sheet):
-    """All pairs (node, row of signs) that come."""
-    wires = [*sheet[0], *sheet[1]]
-    pairs = {(0, sheet[2])}
-    while True:
-        more = {(to, turned_row(row, wires.index(name))) for node, row in pairs for name, to in sheet[3][node]}
-        if more <= pairs:
-            return pairs
-        pairs |= more
 
 
 class IsSheet(unittest.TestCase):
