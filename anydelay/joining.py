@@ -4,13 +4,18 @@ from anydelay.errors import NoFit
 from anydelay.nets import check_standing, gates_of, is_net, row_of, signs_in, wires_of
 
 
+def inputs_left(names, made):
+    # What is made within is no input of the whole.
+    left = []
+    for name in names:
+        if name not in made and name not in left:
+            left.append(name)
+    return left
+
+
 def nets_joined(one, other):
     gates = gates_of(one) + gates_of(other)
-    inputs = []
-    for name in one[0] + other[0]:
-        if name not in gates and name not in inputs:
-            inputs.append(name)
-    joined = (inputs, one[1] + other[1])
+    joined = (inputs_left(one[0] + other[0], gates), one[1] + other[1])
     # A gate of both would stand twice in the joined one, so that this is no net either.
     if not is_net(joined):
         raise NoFit("the nets have a gate in common, or too many inputs or gates to be joined")

@@ -214,7 +214,8 @@ class WireWanted(unittest.TestCase):
     def test_whatever_the_name_and_the_order_of_outputs(self):
         for name in ["aa", "n", "z"]:
             self.assertEqual(wire_wanted(TWICE, name), ("put", ("a", "+"), ("r", "-")))
-            self.assertEqual(wire_wanted(circle("r", "b a", "r+ a+ a- b+ r- b-"), name), ("put", ("a", "+"), ("r", "-")))
+            self.assertEqual(wire_wanted(circle("r", "b a", "r+ a+ a- b+ r- b-"), name),
+                             ("put", ("a", "+"), ("r", "-")))
 
     def test_a_wire_that_may_be_put_but_does_not_help(self):
         # They come ahead of the two that are told.

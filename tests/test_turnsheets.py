@@ -181,7 +181,8 @@ class IsRingSheet(unittest.TestCase):
         arcs = loose("ax")
         for thing in [(), (["x"], ["a"], "00"), (["x"], ["a"], arcs), (["x"], ["a"], "00", arcs, arcs)]:
             self.no(thing)
-        for arc in [(), (("x", "+"),), (("x", "+"), ("a", "+")), (("x", "+"), ("a", "+"), 0, 0), (("x",), ("a", "+"), 0),
+        for arc in [(), (("x", "+"),), (("x", "+"), ("a", "+")), (("x", "+"), ("a", "+"), 0, 0),
+                    (("x",), ("a", "+"), 0),
                     (("x", "+", 0), ("a", "+"), 0), (("x", "+"), (), 0), (("x", "+"), ("a", "+", "-"), 0)]:
             self.no(with_arcs(arcs[:2] + [arc] + arcs[2:]))
             self.no(with_arcs(arcs + [arc]))
